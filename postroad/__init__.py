@@ -1,0 +1,1 @@
+"""Postroad: letters sent through several houses by roads, bags and turns."""
