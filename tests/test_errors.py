@@ -2,6 +2,7 @@
 
 import unittest
 
+from helper import REFUSALS
 from postroad.errors import (
     BadBag,
     CutOff,
@@ -16,8 +17,6 @@ from postroad.errors import (
     NoWay,
     RoadError,
 )
-
-REFUSALS = [NoNet, NoHouse, NoRoad, NoLetter, BadBag, NoWay, ManyGoals, CutOff, NoText, NoRow, NoDay]
 
 
 class StandingTest(unittest.TestCase):
