@@ -10,8 +10,11 @@ class Flow:
     # leads from a house to itself in one turn. A place is a tuple (house,
     # turn). A step is a tuple (lane, turn, change, place): one letter more, or
     # one fewer, leaves on the lane at the turn, and so the place is come to.
-    def __init__(self, net, letters, turn):
+    # What is taken, a dict from (road, turn) to a number of letters, is room
+    # that other letters have: the flow goes round it.
+    def __init__(self, net, letters, turn, taken):
         self.until = turn
+        self.taken = dict(taken)
         self.road_count = len(net.roads())
         # While a letter is looked at that doesn't go yet, fewer than all
         # letters go: so there is always room to stay.
@@ -24,12 +27,15 @@ class Flow:
         self.used = {}
         self.closed = {}
 
+    def load(self, going):
+        return self.taken.get(going, 0) + self.used.get(going, 0)
+
     def steps_onward(self, place):
         steps = []
         for number in self.outward[place[0]]:
             lane = self.lanes[number]
             there = place[1] + lane[2]
-            if there <= self.until and self.used.get((number, place[1]), 0) < lane[3]:
+            if there <= self.until and self.load((number, place[1])) < lane[3]:
                 steps.append((number, place[1], 1, (lane[1], there)))
         return steps
 
@@ -77,6 +83,13 @@ class Flow:
             place = step[3]
         return True
 
+    def send_those(self, letters, numbers):
+        sent = []
+        for number in numbers:
+            if letters[number][1] <= self.until and self.send_home(letters[number]):
+                sent.append(number)
+        return sent
+
     def loads(self):
         # Tuples (turn, road, how many letters), in the order of a plan.
         return sorted([
@@ -112,9 +125,6 @@ def plan_of(net, letters, sent, loads):
 
 def most(net, letters, turn):
     need_one_goal(letters)
-    flow = Flow(net, letters, turn)
-    sent = []
-    for number, letter in enumerate(letters):
-        if letter[1] <= turn and flow.send_home(letter):
-            sent.append(number)
+    flow = Flow(net, letters, turn, {})
+    sent = flow.send_those(letters, list(range(len(letters))))
     return (len(sent), plan_of(net, letters, sent, flow.loads()), flow.paper())

@@ -12,8 +12,14 @@ class Walk:
     # letter that has gone nowhere is no case of its own.
     def __init__(self, net, letters):
         self.net = net
-        self.goals = [letter[2] for letter in letters]
-        self.steps = [[(letter[1], None, letter[0], letter[1])] for letter in letters]
+        self.goals = []
+        self.steps = []
+        for letter in letters:
+            self.take_in(letter)
+
+    def take_in(self, letter):
+        self.goals.append(letter[2])
+        self.steps.append([(letter[1], None, letter[0], letter[1])])
 
     def send(self, bag):
         road = self.net.road(bag[1])

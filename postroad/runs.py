@@ -22,7 +22,8 @@ def queues_at(walk, going, ways, turn):
         came = walk.last_turn(number)
         if came <= turn:
             road = ways.way(walk.last_house(number), walk.goal(number))
-            queues.setdefault(road, []).append((came, number))
+            if road is not None:
+                queues.setdefault(road, []).append((came, number))
     return queues
 
 

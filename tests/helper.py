@@ -33,6 +33,12 @@ class RefusalCase(unittest.TestCase):
         self.assertEqual(kinds, [kind])
         return caught.exception
 
+    def check_cut_off_by(self, asked, net, letters, number, seen):
+        error = self.check_refused(CutOff, asked, net, letters)
+        self.assertEqual((error.number, error.seen), (number, seen))
+        self.assertIs(type(error.number), int)
+        self.assertIs(type(error.seen), list)
+
 
 class PaperCase(RefusalCase):
     def check_paper_turns(self, net, paper, turn):

@@ -40,10 +40,7 @@ class LeastCase(PaperCase):
         self.assertLess(sum(sums_by_the_words(net, letters, paper, turn - 1)), len(letters))
 
     def check_cut_off(self, net, letters, number, seen):
-        error = self.check_refused(CutOff, least, net, letters)
-        self.assertEqual((error.number, error.seen), (number, seen))
-        self.assertIs(type(error.number), int)
-        self.assertIs(type(error.seen), list)
+        self.check_cut_off_by(least, net, letters, number, seen)
 
 
 class OneHouseTest(LeastCase):
